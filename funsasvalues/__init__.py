@@ -1,0 +1,1 @@
+"""Programs with functions as values: reading them, and telling what happens in a run."""
