@@ -1,6 +1,6 @@
 """The object that a line of calls is made on: each method answers one call's numbers."""
 
-from funsasvalues.forms import CALL
+from funsasvalues.forms import CALL, FUN
 from funsasvalues.machine import run_program
 from funsasvalues.reading import NoProgram, read_nodes
 
@@ -26,6 +26,9 @@ class Desk:
 
     def has_node(self, label):
         return 0 <= label < len(self.nodes)
+
+    def labels_of(self, kind):
+        return [label for label, node in enumerate(self.nodes) if node.kind == kind]
 
     def take_program(self, text):
         try:
@@ -80,6 +83,37 @@ class Desk:
         for what in told:
             answer.extend(what)
         return answer
+
+    def tell_flows(self, label):
+        if not self.has_node(label):
+            return [REFUSED_LABEL]
+        flows = [flow for flow in self.run().flows if flow[0] == label]
+        answer = [len(flows)]
+        for flow in flows:
+            string = flow[1]
+            answer.extend(flow[2])
+            answer.append(len(string))
+            answer.extend(string)
+        return answer
+
+    def tell_node(self, label):
+        if not self.has_node(label):
+            return [REFUSED_LABEL]
+        node = self.nodes[label]
+        text = self.text[node.begin:node.behind]
+        return [node.kind, len(text)] + text + [node.binder + 1]
+
+    def tell_funs(self):
+        funs = self.labels_of(FUN)
+        return [len(funs)] + funs
+
+    def tell_sites(self):
+        sites = self.labels_of(CALL)
+        return [len(sites)] + sites
+
+    def tell_heap(self):
+        made = self.run().made
+        return [len(made), len(set(made))]
 
     def tell_size(self):
         run = self.run()

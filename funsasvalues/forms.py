@@ -34,17 +34,23 @@ PARTS_OF_KIND = (0, 0, 1, 2, 2, 3, 2, 1, 1, 1, 1, 2, 2)
 # By a node's kind: how many of these are run before it is decided what comes of the node.
 PARTS_RUN_FIRST = (0, 0, 0, 2, 1, 1, 2, 1, 1, 1, 1, 2, 2)
 
+# The kinds of the nodes that make something new each time they give a value: fun, pair and new.
+MAKING_KINDS = (2, 6, 9)
+
 # The name of the input, which nothing binds.
 INPUT_NAME = "in"
 
-# In the place of a binder's label.
+# In the place of a binder's label; 1 more is the 0 that is told where there's no binder.
 NO_BINDER = -1
 
 
 class Node:
-    def __init__(self, kind, depth):
+    def __init__(self, kind, depth, begin):
         self.kind = kind
         self.depth = depth
+        # Where its text begins in the program's, and the place behind its end.
+        self.begin = begin
+        self.behind = begin
         self.number = 0
         # Of a fun or a let the name that it binds, of a name the name itself.
         self.name = ""

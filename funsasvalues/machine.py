@@ -1,6 +1,6 @@
-"""A program's run on an input: its steps, its calls, its flows, and how it ends."""
+"""A program's run on an input: its steps, its calls, its flows, what it makes, and how it ends."""
 
-from funsasvalues.forms import ADD, CALL, FST, FUN, GET, IF, LET, NEW, NO_BINDER, NUMBER, PAIR
+from funsasvalues.forms import ADD, CALL, FST, FUN, GET, IF, LET, MAKING_KINDS, NEW, NO_BINDER, NUMBER, PAIR
 from funsasvalues.forms import PARTS_RUN_FIRST, SET, SND
 
 MOST_STEPS = 300
@@ -51,6 +51,8 @@ class Run:
         # Dicts of True, as they keep each thing once and in the order of its first coming.
         self.calls = {}
         self.flows = {}
+        # The labels of the functions, pairs and references, one for each that was made.
+        self.made = []
         # What is answered of the run; empty while it goes on.
         self.ending = []
 
@@ -110,6 +112,8 @@ class Run:
             value = value_of_one(node, visit)
         else:
             value = value_of_two(node, visit)
+        if node.kind in MAKING_KINDS:
+            self.made.append(visit.label)
         if value is None:
             self.go_wrong(visit)
         else:

@@ -65,12 +65,12 @@ class Reader:
             number = number * 10 + digit - ZERO
         return number
 
-    def add_node(self, kind):
+    def add_node(self, kind, begin):
         if len(self.nodes) == MOST_NODES or len(self.around) > MOST_AROUND:
             raise NoProgram()
         if self.around:
             self.nodes[self.around[-1]].parts.append(len(self.nodes))
-        node = Node(kind, len(self.around))
+        node = Node(kind, len(self.around), begin)
         self.nodes.append(node)
         return node
 
@@ -90,23 +90,26 @@ class Reader:
             self.read_name()
 
     def read_number(self):
-        node = self.add_node(NUMBER)
+        node = self.add_node(NUMBER, self.place)
         node.number = self.take_number()
+        node.behind = self.place
 
     def read_name(self):
-        node = self.add_node(NAME)
+        node = self.add_node(NAME, self.place)
         node.name = self.take_name()
+        node.behind = self.place
         if node.name != INPUT_NAME:
             node.binder = self.binder_of(node.name)
 
     def begin_bracket(self):
+        begin = self.place
         self.take(OPENING)
         start = self.place
         word = self.take_letters()
         if word not in KIND_OF_WORD:
             # It is a call, and the letters belong to its function.
             self.place = start
-        node = self.add_node(KIND_OF_WORD.get(word, CALL))
+        node = self.add_node(KIND_OF_WORD.get(word, CALL), begin)
         if node.kind == FUN or node.kind == LET:
             self.take(BLANK)
             node.name = self.take_binder_name()
@@ -122,6 +125,7 @@ class Reader:
         node = self.nodes[self.around[-1]]
         if len(node.parts) == PARTS_OF_KIND[node.kind]:
             self.take(CLOSING)
+            node.behind = self.place
             self.around.pop()
         else:
             # Only a call's function stands straight behind the bracket.

@@ -9,7 +9,11 @@ RUN = 3
 ARROWS = 4
 CALLS = 5
 VALUES = 6
-SIZE = 12
+FLOWS = 7
+NODE = 8
+FUNS = 9
+SITES = 10
+HEAP = 11
 
 
 def answers(calls):
@@ -28,7 +32,7 @@ def answers(calls):
 def length_of_call(calls, place):
     if calls[place] == PROGRAM:
         return 2 + calls[place + 1]
-    if calls[place] in (GIVEN, CALLS, VALUES):
+    if calls[place] in (GIVEN, CALLS, VALUES, FLOWS, NODE):
         return 2
     return 1
 
@@ -49,6 +53,14 @@ def answer_of_call(desk, call):
         return desk.tell_calls(call[1])
     if number == VALUES:
         return desk.tell_values(call[1])
-    if number == SIZE:
-        return desk.tell_size()
-    raise NotImplementedError("this call is not there yet")
+    if number == FLOWS:
+        return desk.tell_flows(call[1])
+    if number == NODE:
+        return desk.tell_node(call[1])
+    if number == FUNS:
+        return desk.tell_funs()
+    if number == SITES:
+        return desk.tell_sites()
+    if number == HEAP:
+        return desk.tell_heap()
+    return desk.tell_size()

@@ -5,7 +5,17 @@ from funsasvalues.runs import answers
 SHOW = [1]
 RUN = [3]
 ARROWS = [4]
+FUNS = [9]
+SITES = [10]
+HEAP = [11]
 SIZE = [12]
+
+HUGE = 1000000000000000000
+
+# The document's example.
+EXAMPLE = "(let id (fun x x) (pair (id in) (id (fun y 3))))"
+# A run without an end.
+OMEGA = "((fun x (x x)) (fun x (x x)))"
 
 
 def program(text):
@@ -23,6 +33,14 @@ def calls(label):
 
 def values(label):
     return [6, label]
+
+
+def flows(label):
+    return [7, label]
+
+
+def node(label):
+    return [8, label]
 
 
 def line(*parts):
@@ -64,3 +82,23 @@ COUNT_DOWN = "(let f (fun s (fun n (if n END ((s s) (add n 99))))) ((f f) TIMES)
 
 def count_down(times, end):
     return COUNT_DOWN.replace("END", end).replace("TIMES", str(times))
+
+
+# Functions that call one another: e calls h, h calls g, g calls f.
+CHAIN = "(let f FIRST (let g (fun x (f x)) (let h (fun x (g x)) (let e (fun x (h x)) LAST))))"
+
+
+def chain(first, last):
+    return CHAIN.replace("FIRST", first).replace("LAST", last)
+
+
+def add_row(count):
+    """A program of 2 * count + 1 nodes that is as flat as it can be."""
+    if count == 0:
+        return "0"
+    left = (count - 1) // 2
+    return "(add " + add_row(left) + " " + add_row(count - 1 - left) + ")"
+
+
+def nest(word, count, inmost):
+    return ("(" + word + " ") * count + inmost + ")" * count

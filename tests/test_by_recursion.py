@@ -5,10 +5,12 @@ import re
 import unittest
 
 from funsasvalues.runs import answers
-from tests.helper import ARROWS, RUN, SHOW, SIZE, calls, given, line, program, shown, split, values
+from tests.helper import ARROWS, FUNS, HEAP, RUN, SHOW, SITES, SIZE
+from tests.helper import calls, flows, given, line, node, program, shown, split, values
 
 RESERVED = ("fun", "let", "if", "pair", "fst", "snd", "new", "get", "set", "add")
 PARTS = {"if": 3, "pair": 2, "fst": 1, "snd": 1, "new": 1, "get": 1, "set": 2, "add": 2}
+KINDS = ["number", "name", "fun", "call", "let", "if", "pair", "fst", "snd", "new", "get", "set", "add"]
 
 
 class Refused(Exception):
@@ -20,7 +22,7 @@ class Stopped(Exception):
 
 
 def parse(text):
-    """Nested tuples (label, depth, word, ...) of a program's text."""
+    """Nested tuples (label, depth, word, ...) of a program's text; bound tells the names' binders."""
     tokens = re.findall(r"[()]|[^() ]+", text)
     labels = []
 
@@ -40,7 +42,7 @@ def parse(text):
         if word in ("fun", "let"):
             name = binder()
             own = [] if word == "fun" else [expression(bound, depth + 1)]
-            node = [label, depth, word, name] + own + [expression(bound + [name], depth + 1)]
+            node = [label, depth, word, name] + own + [expression({**bound, name: label}, depth + 1)]
         else:
             count = PARTS.get(word, 2)
             kind = word if word in RESERVED else "call"
@@ -59,13 +61,13 @@ def parse(text):
         if re.fullmatch("0|[1-9][0-9]?", token):
             return ("number", int(token))
         if token == "in" or token in bound:
-            return ("name", token)
+            return ("name", token, bound.get(token, -1))
         raise Refused()
 
-    tree = expression([], 0)
+    tree = expression({}, 0)
     if tokens or write(tree) != text:
         raise Refused()
-    return tree, labels
+    return tree
 
 
 def write(node):
@@ -88,6 +90,7 @@ class Walk:
         self.steps = 0
         self.flows = []
         self.calls = []
+        self.made = []
         try:
             value = self.run(tree, [], {})
             self.end = [0, value[0], value[1], value[2] if value[0] == 0 else 0, self.steps]
@@ -115,6 +118,7 @@ class Walk:
         return (0, 0, self.number) if node[3] == "in" else names[node[3]]
 
     def run_fun(self, node, string, names):
+        self.made.append(node[0])
         return (1, node[0], node, names)
 
     def run_call(self, node, string, names):
@@ -138,7 +142,9 @@ class Walk:
 
     def run_pair(self, node, string, names):
         first = self.run(node[3], string, names)
-        return (2, node[0], first, self.run(node[4], string, names))
+        second = self.run(node[4], string, names)
+        self.made.append(node[0])
+        return (2, node[0], first, second)
 
     def run_fst(self, node, string, names):
         pair = self.run(node[3], string, names)
@@ -151,7 +157,9 @@ class Walk:
         return pair[3]
 
     def run_new(self, node, string, names):
-        return (3, node[0], [self.run(node[3], string, names)])
+        inside = self.run(node[3], string, names)
+        self.made.append(node[0])
+        return (3, node[0], [inside])
 
     def run_get(self, node, string, names):
         reference = self.run(node[3], string, names)
@@ -177,27 +185,45 @@ def once(things):
     return list(dict.fromkeys(things))
 
 
+def counted(rows):
+    return [len(rows)] + [part for row in rows for part in row]
+
+
+def labels_of(tree, word):
+    return counted([(each[0],) for each in nodes_of(tree) if each[2] == word])
+
+
+def wanted_of_all(text, tree, walk):
+    """What the calls without a label must answer."""
+    depths = [each[1] for each in nodes_of(tree)]
+    arrows = once(call[:2] for call in walk.calls)
+    rows = [[len(depths)], [0], shown(text), walk.end, counted(arrows)]
+    rows += [labels_of(tree, "fun"), labels_of(tree, "call"), [len(walk.made), len(set(walk.made))]]
+    return rows + [[len(depths), max(depths), len(arrows), len(walk.flows)]]
+
+
+def wanted_of_node(each, walk):
+    """What the calls with this node's label must answer."""
+    label = each[0]
+    own = [(call[1], len(call[2])) + call[2] for call in walk.calls if call[0] == label]
+    values_here = once(flow[2] for flow in walk.flows if flow[0] == label)
+    flows_here = [flow[2] + (len(flow[1]),) + flow[1] for flow in walk.flows if flow[0] == label]
+    binder = each[4] + 1 if each[2] == "name" else 0
+    told = [KINDS.index(each[2])] + shown(write(each)) + [binder]
+    return [counted(own) if each[2] == "call" else [-5], counted(values_here), counted(flows_here), told]
+
+
 def wanted_answers(text, number, asked):
     """What the calls of the test below must answer, or None for a text that's no program's."""
     try:
-        tree, depths = parse(text)
+        tree = parse(text)
     except Refused:
         return None
     walk = Walk(tree, number)
-    arrows = once(call[:2] for call in walk.calls)
-    sites = {node[0] for node in nodes_of(tree) if node[2] == "call"}
-    rows = [[len(depths)], [0], shown(text), walk.end]
-    rows.append([len(arrows)] + [part for arrow in arrows for part in arrow])
-    rows.append([len(depths), max(depths), len(arrows), len(walk.flows)])
+    nodes = {each[0]: each for each in nodes_of(tree)}
+    rows = wanted_of_all(text, tree, walk)
     for label in asked:
-        if not 0 <= label < len(depths):
-            rows += [[-3], [-3]]
-            continue
-        own = [call for call in walk.calls if call[0] == label]
-        row = [len(own)] + [part for call in own for part in (call[1], len(call[2])) + call[2]]
-        rows.append(row if label in sites else [-5])
-        given_here = once(flow[2] for flow in walk.flows if flow[0] == label)
-        rows.append([len(given_here)] + [part for what in given_here for part in what])
+        rows += wanted_of_node(nodes[label], walk) if label in nodes else [[-3]] * 4
     return rows
 
 
@@ -238,11 +264,12 @@ def spoiled(chance, text):
 
 class ByRecursion(unittest.TestCase):
     def check(self, text, number):
-        rest = [given(number), SHOW, RUN, ARROWS, SIZE]
-        # A line has at most 40 calls, so the labels are asked for in two lines.
-        for asked in (range(-1, 16), range(15, 31)):
-            pairs = [call for label in asked for call in (calls(label), values(label))]
-            told = split(answers(line(program(text), *rest, *pairs)))
+        rest = [given(number), SHOW, RUN, ARROWS, FUNS, SITES, HEAP, SIZE]
+        # A line has at most 40 calls, so the labels are asked for in several lines.
+        for first in range(-1, 31, 7):
+            asked = range(first, min(first + 7, 31))
+            of_nodes = [call(label) for label in asked for call in (calls, values, flows, node)]
+            told = split(answers(line(program(text), *rest, *of_nodes)))
             wanted = wanted_answers(text, number, asked)
             if wanted is None:
                 self.assertEqual(told[:3], [[-1], [0], [1, 48]], text)

@@ -103,6 +103,60 @@ class Language(unittest.TestCase):
         self.assertEqual(methods & stored, set())
         self.assertEqual(called - methods - METHODS, set())
 
+    def test_the_tops_of_modules(self):
+        for name, tree in trees():
+            bound = []
+            for part in tree.body:
+                if isinstance(part, ast.Assign):
+                    ast.literal_eval(part.value)
+                    self.assertEqual(len(part.targets), 1, name)
+                    bound.append(part.targets[0].id)
+                elif isinstance(part, ast.ImportFrom):
+                    bound += [alias.name for alias in part.names]
+                elif isinstance(part, (ast.FunctionDef, ast.ClassDef)):
+                    bound.append(part.name)
+                else:
+                    self.assertIsInstance(part.value, ast.Constant, name)
+            self.assertEqual(len(bound), len(set(bound)), name)
+
+    def test_locals_are_not_called_like_what_stands_at_the_top(self):
+        for name, tree in trees():
+            top = {alias.name for part in tree.body if isinstance(part, ast.ImportFrom) for alias in part.names}
+            top |= {part.name for part in tree.body if isinstance(part, (ast.FunctionDef, ast.ClassDef))}
+            for node in ast.walk(tree):
+                if isinstance(node, ast.Name) and isinstance(node.ctx, ast.Store):
+                    self.assertNotIn(node.id, top, name)
+                if isinstance(node, ast.arg):
+                    self.assertNotIn(node.arg, top, name)
+
+    def test_imports_are_of_the_file_that_defines_the_name(self):
+        defined = {}
+        for name, tree in trees():
+            own = {part.name for part in tree.body if isinstance(part, (ast.FunctionDef, ast.ClassDef))}
+            own |= {part.targets[0].id for part in tree.body if isinstance(part, ast.Assign)}
+            defined["funsasvalues." + name.removesuffix(".py")] = own
+        for name, tree in trees():
+            for part in tree.body:
+                if isinstance(part, ast.ImportFrom):
+                    self.assertEqual({alias.name for alias in part.names} - defined[part.module], set(), name)
+
+    def test_sets_are_not_kept(self):
+        for name, tree in trees():
+            asked = [node.args[0] for node in ast.walk(tree) if is_call_of(node, ("len", "sorted"))]
+            for node in ast.walk(tree):
+                if is_call_of(node, ("set", "frozenset")):
+                    self.assertIn(node, asked, (name, node.lineno))
+
+    def test_texts(self):
+        for name, tree in trees():
+            for node in ast.walk(tree):
+                if isinstance(node, ast.Constant) and isinstance(node.value, str):
+                    self.assertNotIn("%", node.value, (name, node.lineno))
+
+
+def is_call_of(node, names):
+    return isinstance(node, ast.Call) and isinstance(node.func, ast.Name) and node.func.id in names
+
 
 if __name__ == "__main__":
     unittest.main()

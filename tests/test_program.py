@@ -2,19 +2,7 @@
 
 import unittest
 
-from tests.helper import RUN, SHOW, SIZE, ask, given, program, shown
-
-
-def add_row(count):
-    """A program of 2 * count + 1 nodes that is as flat as it can be."""
-    if count == 0:
-        return "0"
-    left = (count - 1) // 2
-    return "(add " + add_row(left) + " " + add_row(count - 1 - left) + ")"
-
-
-def nest(word, count, inmost):
-    return ("(" + word + " ") * count + inmost + ")" * count
+from tests.helper import EXAMPLE, RUN, SHOW, SIZE, add_row, ask, given, nest, program, shown
 
 
 class TakenPrograms(unittest.TestCase):
@@ -56,7 +44,7 @@ class TakenPrograms(unittest.TestCase):
         self.check("(let x (fun x x) x)", 4)
 
     def test_the_example(self):
-        self.check("(let id (fun x x) (pair (id in) (id (fun y 3))))", 11)
+        self.check(EXAMPLE, 11)
 
     def test_how_many_nodes(self):
         self.check(add_row(14), 29)

@@ -2,9 +2,8 @@
 
 import unittest
 
-from tests.helper import ARROWS, RUN, SHOW, SIZE, ask, ask_of, count_down, given, program, values
-
-HUGE = 1000000000000000000
+from tests.helper import ARROWS, EXAMPLE, HUGE, OMEGA, RUN, SHOW, SIZE
+from tests.helper import ask, ask_of, count_down, given, program, values
 
 
 class Inputs(unittest.TestCase):
@@ -105,7 +104,7 @@ class RunsThatEnd(RunTest):
         self.assertEqual(ask_of("((fun x in) 7)", given(4), RUN)[1], [0, 0, 0, 4, 4])
 
     def test_the_example(self):
-        rows = ask_of("(let id (fun x x) (pair (id in) (id (fun y 3))))", given(4), RUN)
+        rows = ask_of(EXAMPLE, given(4), RUN)
         self.assertEqual(rows, [[0], [0, 2, 3, 0, 11]])
 
 
@@ -164,7 +163,7 @@ class WrongRuns(RunTest):
 
 class LongRuns(RunTest):
     def test_a_run_without_end(self):
-        self.check("((fun x (x x)) (fun x (x x)))", 2, 300)
+        self.check(OMEGA, 2, 300)
 
     def test_just_so_many_steps(self):
         end = "(pair (add 0 0) (pair (add 0 0) (new 0)))"

@@ -1,22 +1,14 @@
-"""Points 5 to 7 and 13: arrows, calls, values and size."""
+"""Points 5 to 8: arrows, calls, values and flows."""
 
 import unittest
 
-from tests.helper import ARROWS, RUN, SIZE, ask, ask_of, calls, count_down, given, program, values
+from tests.helper import ARROWS, EXAMPLE, HUGE, OMEGA, RUN
+from tests.helper import ask, ask_of, calls, chain, count_down, flows, given, program, values
 
-EXAMPLE = "(let id (fun x x) (pair (id in) (id (fun y 3))))"
-OMEGA = "((fun x (x x)) (fun x (x x)))"
 # The call 2 calls the functions 8, 13 and 17.
 SEVERAL = "(let a (fun f (f 1)) (pair (a (fun x x)) (pair (a (fun y y)) (a (fun z 0)))))"
-# Functions that call one another: e calls h, h calls g, g calls f.
-CHAIN = "(let f FIRST (let g (fun x (f x)) (let h (fun x (g x)) (let e (fun x (h x)) LAST))))"
-HUGE = 1000000000000000000
 # The body of the function that the call 12 calls would be step 301.
 CALL_AT_THE_END = count_down(28, "(pair (pair (add 0 0) (new 0)) ((fun z z) 0))")
-
-
-def chain(first, last):
-    return CHAIN.replace("FIRST", first).replace("LAST", last)
 
 
 class Arrows(unittest.TestCase):
@@ -190,43 +182,108 @@ class Values(unittest.TestCase):
         self.assertEqual(rows, [[2], [1, 0, 0], [1], [-3], [-1], [1, 0, 0]])
 
 
-class Size(unittest.TestCase):
-    def check(self, text, *wanted):
-        self.assertEqual(ask_of(text, SIZE), [list(wanted)], text)
+class Flows(unittest.TestCase):
+    def check(self, text, label, *wanted):
+        self.assertEqual(ask_of(text, flows(label)), [list(wanted)], (text, label))
 
     def test_the_example(self):
-        self.assertEqual(ask_of(EXAMPLE, given(4), SIZE)[1], [11, 4, 2, 11])
+        rows = ask_of(EXAMPLE, *[flows(label) for label in range(11)])
+        wanted = [
+            [1, 2, 3, 0], [1, 1, 1, 0], [2, 0, 0, 1, 4, 1, 9, 1, 7], [1, 2, 3, 0], [1, 0, 0, 0], [1, 1, 1, 0],
+            [1, 0, 0, 0], [1, 1, 9, 0], [1, 1, 1, 0], [1, 1, 9, 0], [0],
+        ]
+        self.assertEqual(rows, wanted)
 
-    def test_one_node(self):
-        self.check("in", 1, 0, 0, 1)
+    def test_each_kind_of_value(self):
+        self.check("7", 0, 1, 0, 0, 0)
+        self.check("(fun x x)", 0, 1, 1, 0, 0)
+        self.check("(pair 0 1)", 0, 1, 2, 0, 0)
+        self.check("(new 0)", 0, 1, 3, 0, 0)
 
-    def test_depth_is_the_deepest_nodes(self):
-        self.check("(pair (new (new 1)) 2)", 5, 3, 0, 5)
-        self.check("(if 1 (new (new 1)) 2)", 6, 3, 0, 3)
-        self.check("(fun x (new (new x)))", 4, 3, 0, 1)
+    def test_one_value_in_unlike_strings(self):
+        self.check("(let f (fun x x) (pair (f 1) (f 2)))", 2, 2, 0, 0, 1, 4, 0, 0, 1, 7)
 
-    def test_flows_are_told_apart_by_label_string_and_value(self):
-        self.check("(let f (fun x x) (pair (f 1) (f 2)))", 10, 3, 2, 11)
-        # The node 2 gives its values in the same string, as what tells them apart is cut off.
-        self.check(chain("(fun x x)", "(pair (e 1) (e 2))"), 25, 6, 5, 34)
-        self.check(chain("(fun x x)", "(pair (e 1) (e (fun z z)))"), 26, 7, 5, 35)
+    def test_unlike_values_in_one_string(self):
+        # What tells the calls from 19 and from 22 apart is cut off in the string of the node 2.
+        text = chain("(fun x x)", "(pair (e 1) (e (fun z z)))")
+        self.check(text, 2, 2, 0, 0, 3, 5, 10, 15, 1, 24, 3, 5, 10, 15)
 
-    def test_wrong_and_long_runs(self):
-        self.check("(0 0)", 3, 1, 0, 2)
-        self.check("((fun x (fst x)) 1)", 5, 3, 1, 3)
-        # The parts of the call 6 give a function each, in 4 strings.
-        self.check(OMEGA, 9, 3, 3, 12)
+    def test_each_once_in_order(self):
+        text = chain("(fun x x)", "(pair (e 1) (pair (e (fun z z)) (e 2)))")
+        self.check(text, 2, 2, 0, 0, 3, 5, 10, 15, 1, 25, 3, 5, 10, 15)
+        text = chain("(fun x x)", "(pair (e (fun z z)) (e 2))")
+        self.check(text, 2, 2, 1, 21, 3, 5, 10, 15, 0, 0, 3, 5, 10, 15)
 
-    def test_a_flow_that_comes_again_is_one(self):
-        text = "(let f (fun s (fun n (if n 0 ((s s) (add n 99))))) ((f f) TIMES))"
-        sizes = [ask_of(text.replace("TIMES", str(times)), SIZE)[0] for times in range(30)]
-        self.assertEqual(sizes[10], sizes[20])
-        self.assertEqual(sizes[10][:3], [18, 6, 4])
-        self.assertLess(sizes[2][3], sizes[3][3])
+    def test_other_numbers_and_other_things_of_one_label_are_the_same_flow(self):
+        self.check(chain("(fun x (new x))", "(pair (e 1) (e 2))"), 2, 1, 3, 2, 3, 6, 11, 16)
+        self.check(chain("(fun x (pair x x))", "(pair (e 1) (e 2))"), 3, 1, 0, 0, 3, 7, 12, 17)
+
+    def test_the_string_is_cut_at_three_sites_the_latest_first(self):
+        text = chain("(fun x x)", "(e 1)")
+        rows = ask_of(text, *[flows(label) for label in (18, 17, 12, 7, 2)])
+        wanted = [
+            [1, 0, 0, 0], [1, 0, 0, 1, 18], [1, 0, 0, 2, 15, 18], [1, 0, 0, 3, 10, 15, 18], [1, 0, 0, 3, 5, 10, 15],
+        ]
+        self.assertEqual(rows, wanted)
+
+    def test_a_flow_comes_about_after_those_in_it(self):
+        text = "(let f (fun s (fun n (if n 0 (add 1 ((s s) (add n 99)))))) ((f f) 2))"
+        rows = ask_of(text, flows(3), flows(4))
+        inwards = [0, 0, 1, 15, 0, 0, 2, 8, 15, 0, 0, 3, 8, 8, 15]
+        outwards = [0, 0, 3, 8, 8, 15, 0, 0, 2, 8, 15, 0, 0, 1, 15]
+        self.assertEqual(rows, [[3] + outwards, [3] + inwards])
+
+    def test_a_call_gives_its_value_in_its_own_string(self):
+        text = "((fun x ((fun y (pair y x)) 1)) 2)"
+        rows = ask_of(text, flows(0), flows(2), flows(4), flows(5))
+        self.assertEqual(rows, [[1, 2, 4, 0], [1, 2, 4, 1, 0], [1, 2, 4, 2, 2, 0], [1, 0, 0, 2, 2, 0]])
+
+    def test_lets_and_choices_stay_in_their_string(self):
+        text = "((fun x (let y (if x 1 2) (add x y))) 0)"
+        rows = ask_of(text, *[flows(label) for label in (2, 3, 4, 5, 6, 7)])
+        self.assertEqual(rows, [[1, 0, 0, 1, 0]] * 4 + [[0], [1, 0, 0, 1, 0]])
+
+    def test_what_was_never_come_to(self):
+        self.check("(fun x x)", 1, 0)
+        self.check("(if 0 1 2)", 3, 0)
+        self.check("(pair (fst 0) 1)", 3, 0)
+
+    def test_where_the_run_stood_still(self):
+        self.check("(fst 0)", 0, 0)
+        self.check("(pair 1 (get 2))", 0, 0)
+        self.check("(pair 1 (get 2))", 2, 0)
+        self.check(OMEGA, 0, 0)
+        self.check(OMEGA, 6, 0)
+
+    def test_wrong_runs(self):
+        rows = ask_of("((fun x (add x (fst x))) 1)", *[flows(label) for label in range(7)])
+        self.assertEqual(rows, [[0], [1, 1, 1, 0], [0], [1, 0, 0, 1, 0], [0], [1, 0, 0, 1, 0], [1, 0, 0, 0]])
+
+    def test_a_node_that_is_wrong_only_later(self):
+        text = "(let f (fun x (fst x)) (pair (f (pair 1 2)) (f 3)))"
+        self.check(text, 2, 1, 0, 0, 1, 5)
+        self.check(text, 3, 2, 2, 7, 1, 5, 0, 0, 1, 10)
+
+    def test_long_runs(self):
+        wanted = [4, 1, 5, 2, 2, 0, 1, 5, 3, 6, 2, 0, 1, 5, 3, 6, 6, 2, 1, 5, 3, 6, 6, 6]
+        self.assertEqual(ask_of(OMEGA, flows(1), flows(3), flows(7)), [[1, 1, 1, 0], [1, 1, 5, 1, 0], wanted])
+
+    def test_the_last_step_of_a_long_run(self):
+        rows = ask_of(CALL_AT_THE_END, *[flows(label) for label in (12, 13, 14, 15)])
+        self.assertEqual(rows, [[0], [1, 1, 13, 3, 16, 16, 16], [0], [1, 0, 0, 3, 16, 16, 16]])
 
     def test_the_input_counts(self):
-        rows = ask_of("(if in 1 ((fun x x) 2))", SIZE, given(1), SIZE)
-        self.assertEqual(rows, [[7, 3, 0, 3], [0], [7, 3, 1, 6]])
+        rows = ask_of("(if in 1 (new 2))", flows(0), flows(2), given(1), flows(0), flows(2))
+        self.assertEqual(rows, [[1, 0, 0, 0], [1, 0, 0, 0], [0], [1, 3, 3, 0], [0]])
+
+    def test_labels_that_no_node_has(self):
+        for label in (-1, -2, 11, 12, 30, HUGE, -HUGE):
+            self.check(EXAMPLE, label, -3)
+        self.assertEqual(ask(flows(0), flows(1), flows(-1)), [[1, 0, 0, 0], [-3], [-3]])
+
+    def test_labels_are_those_of_the_program_now(self):
+        rows = ask(program("(new 0)"), flows(1), program("5"), flows(1), program("("), flows(0))
+        self.assertEqual(rows, [[2], [1, 0, 0, 0], [1], [-3], [-1], [1, 0, 0, 0]])
 
 
 if __name__ == "__main__":
